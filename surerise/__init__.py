@@ -1,0 +1,1 @@
+"""Questions about counters that only rise and sometimes start again."""
