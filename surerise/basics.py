@@ -7,6 +7,7 @@ from surerise.errors import InvalidInteger
 LETTERS = "abcdefghijklmnopqrstuvwxyz"
 DIGITS = "0123456789"
 LONGEST_NAME = 8
+LONGEST_NUMERAL = 40
 
 
 def is_integer(value):
@@ -52,3 +53,10 @@ def ratio_of(numerator, denominator=1):
 def is_list(value):
     """Whether a value may stand where the text says list."""
     return isinstance(value, (list, tuple))
+
+
+def is_numeral(word):
+    """Whether a string is a COUNT in decimal without unnecessary zeros, of at most forty digits."""
+    if not 1 <= len(word) <= LONGEST_NUMERAL or not all([sign in DIGITS for sign in word]):
+        return False
+    return word == "0" or word[0] != "0"

@@ -1,11 +1,15 @@
 """What several tests use: a strict comparison, wrong values, and a check of errors."""
 
 import unittest
+from unittest.mock import ANY
 
-NO_INTEGERS = [True, False, None, "1", "", 1.0, b"1", [], [1], (), (1,), {}, {1: 1}, object()]
+# ANY is equal to every value, so it shows where a value is only compared with valid ones.
+NO_INTEGERS = [True, False, None, "1", "", 1.0, b"1", [], [1], (), (1,), {}, {1: 1}, object(), ANY]
 NO_COUNTS = NO_INTEGERS + [-1, -10 ** 39]
-NO_LISTS = [None, True, 0, 3, "ab", "", b"a", {}, {"a": 1}, object()]
-NO_NAMES = [None, True, 0, "", "A", "1a", "a b", "a-b", "a_b", "abcdefghi", " a", "a\n", b"a", ["a"], ("a",), {}, {"a": 1}]
+NO_LISTS = [None, True, 0, 3, "ab", "", b"a", {}, {"a": 1}, object(), ANY]
+NO_NAMES = [
+    None, True, 0, "", "A", "1a", "a b", "a-b", "a_b", "abcdefghi", " a", "a\n", b"a", ["a"], ("a",), {}, {"a": 1}, ANY,
+]
 
 
 def same(one, other):

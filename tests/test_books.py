@@ -85,6 +85,7 @@ class Books(Case):
             self.same(other == book, False)
             self.same(book != other, True)
         self.same(Book(["a", "b"]) == Book(["a", "c"]), False)
+        self.same(Book(["a", "b"]) == Book(["b", "a"]), False)
         self.same(Book(["a", "b"]) == Book(["a"]), False)
 
     def test_nothing_changes_the_book(self):
