@@ -22,6 +22,9 @@ class Book:
         self._members = {counter: [counter] for counter in counters}
         for name in sorted(grouped, key=str):
             self._members[name] = grouped[name]
+        # These are asked for so often that they are worked out only once.
+        self._places = {name: places_among(self._counters, self._members[name]) for name in self._members}
+        self._groups_around = outer_groups(self._members)
 
     def counters(self):
         """The counters, in their sequence."""
@@ -37,24 +40,27 @@ class Book:
 
     def members(self, name):
         """The counters of a name."""
-        if name not in self:
-            raise UnknownName(name)
+        check_known(self, name)
         return list(self._members[name])
 
     def within(self, name):
         """The names that lie within a name."""
-        members = self.members(name)
-        return [inner for inner in self._members if inner != name and contains(members, self._members[inner])]
+        check_known(self, name)
+        return [inner for inner in self._members if name in self._groups_around[inner]]
 
     def above(self, name):
         """The name with the fewest counters in which a name lies, None if there is none."""
-        members = self.members(name)
-        found = None
-        for outer in self.groups():
-            if outer != name and contains(self._members[outer], members):
-                if found is None or len(self._members[outer]) < len(self._members[found]):
-                    found = outer
-        return found
+        check_known(self, name)
+        outer = self._groups_around[name]
+        return outer[0] if outer else None
+
+    def groups_around(self, name):
+        """The tuple of the groups in which a name of the book lies, those with fewer counters first."""
+        return self._groups_around[name]
+
+    def places(self, name):
+        """The tuple of the numbers of the counters of a name of the book, in the sequence of all counters."""
+        return self._places[name]
 
     def __contains__(self, x):
         return isinstance(x, str) and x in self._members
@@ -66,9 +72,27 @@ class Book:
         return isinstance(other, Book) and self._counters == other._counters and self._members == other._members
 
 
-def contains(members, others):
-    """Whether all of the other counters are among the members."""
-    return all([counter in members for counter in others])
+def check_known(book, name):
+    """Refuses what is no name of a book."""
+    if name not in book:
+        raise UnknownName(name)
+
+
+def places_among(counters, members):
+    """The tuple of the numbers of some of the counters."""
+    return tuple([place for place, counter in enumerate(counters) if counter in members])
+
+
+def outer_groups(members):
+    """A dict from the names to the groups in which they lie, those with fewer counters first."""
+    groups = sorted([[name] + members[name] for name in members if len(members[name]) > 1], key=len)
+    return {name: groups_with(groups, members[name]) for name in members}
+
+
+def groups_with(groups, members):
+    """The tuple of those groups, lists of a name and its counters, that have all of the members and more."""
+    # As groups do not cross, a larger one with one of the members has all of them.
+    return tuple([group[0] for group in groups if len(group) > len(members) + 1 and members[0] in group[1:]])
 
 
 def check_counters(counters):

@@ -1,8 +1,9 @@
 """Letters: which of some asked names fall at a gap, and which may fall together."""
 
 from surerise.basics import is_list
+from surerise.books import check_known
 from surerise.errors import ImpossibleLetter, InvalidLetter, InvalidLook, InvalidNames
-from surerise.errors import TakenName, UnknownName
+from surerise.errors import TakenName
 from surerise.rows import Row, check_gap, is_look
 
 
@@ -44,7 +45,7 @@ def fitting_letters(book, names, before, after):
     for look in (before, after):
         if not is_look(book, look):
             raise InvalidLook(look)
-    rises = {name: rise_between(book, name, before, after) for name in asked_names(book, names)}
+    rises = rises_between(book, asked_names(book, names), before, after)
     return [letter for letter in possible if fits(rises, letter)]
 
 
@@ -52,13 +53,13 @@ def strict_row(book, names, letters):
     """A Row that has these letters at its gaps, in which each asked name rises or falls at each gap."""
     asked = asked_names(book, names)
     check_letters(book, asked, letters)
-    counters = book.counters()
-    changes = [changes_with(book, asked, letter) for letter in letters]
+    plan = plan_of_changes(book, asked)
+    changes = [changes_with(plan, letter, len(book)) for letter in letters]
     # A counter that begins with all that it is going to lose never gets below 0.
-    look = [sum([max(0, -one[counter]) for one in changes]) for counter in counters]
+    look = [sum([max(0, -one[place]) for one in changes]) for place in range(len(book))]
     looks = [look]
     for change in changes:
-        look = [reading + change[counter] for counter, reading in zip(counters, look)]
+        look = [reading + more for reading, more in zip(look, change)]
         looks.append(look)
     return Row(book, looks)
 
@@ -67,29 +68,34 @@ def asked_names(book, names):
     """The asked names in the order of the book."""
     if not is_list(names):
         raise InvalidNames(names)
-    for position, name in enumerate(names):
-        if name not in book:
-            raise UnknownName(name)
-        if name in names[:position]:
+    taken = {}
+    for name in names:
+        check_known(book, name)
+        if name in taken:
             raise TakenName(name)
-    return [name for name in book.names() if name in names]
+        taken[name] = True
+    return [name for name in book.names() if name in taken]
 
 
-def parts_of(book, asked, name):
-    """The asked names within a name that do not lie within a further one there."""
-    inner = [other for other in book.within(name) if other in asked]
-    return [part for part in inner if not any([part in book.within(other) for other in inner])]
-
-
-def bare_counters(book, parts, name):
-    """The counters of a name that are counters of none of its parts."""
-    return [counter for counter in book.members(name) if not any([counter in book.members(part) for part in parts])]
+def parts_of_asked(book, asked):
+    """A dict from the asked names to their parts."""
+    parts = {name: [] for name in asked}
+    for name in asked:
+        groups = [group for group in book.groups_around(name) if group in asked]
+        if groups:
+            parts[groups[0]].append(name)
+    return parts
 
 
 def filled_parts(book, asked):
     """A dict from the filled names to their parts."""
-    parts = {name: parts_of(book, asked, name) for name in asked}
-    return {name: parts[name] for name in asked if not bare_counters(book, parts[name], name)}
+    parts = parts_of_asked(book, asked)
+    return {name: parts[name] for name in asked if parts[name] and is_filled(book, name, parts[name])}
+
+
+def is_filled(book, name, parts):
+    """Whether each counter of a name is a counter of one of its parts, which have none in common."""
+    return sum([len(book.places(part)) for part in parts]) == len(book.places(name))
 
 
 def is_letter_of(asked, value):
@@ -103,9 +109,14 @@ def all_letters(asked):
     """All letters, also those that are not possible, in ascending order."""
     found = [()]
     for name in asked[::-1]:
-        # Letters that begin with an earlier name come first, but behind the empty one.
-        found = [()] + [(name,) + letter for letter in found] + found[1:]
+        found = in_sequence(found, [(name,) + letter for letter in found])
     return found
+
+
+def in_sequence(without, having):
+    """What belongs to letters without a first name, and what to those with it, in the sequence of all letters."""
+    # The empty letter comes first, then all that begin with the first name.
+    return without[:1] + having + without[1:]
 
 
 def agrees(filled, letter):
@@ -119,11 +130,10 @@ def agrees(filled, letter):
     return True
 
 
-def rise_between(book, name, before, after):
-    """The reading of a name at the second look minus that at the first one."""
-    counters = book.counters()
-    members = book.members(name)
-    return sum([behind - ahead for counter, ahead, behind in zip(counters, before, after) if counter in members])
+def rises_between(book, asked, before, after):
+    """A dict from the asked names to their readings at the second look minus those at the first one."""
+    rises = [behind - ahead for ahead, behind in zip(before, after)]
+    return {name: sum([rises[place] for place in book.places(name)]) for name in asked}
 
 
 def fits(rises, letter):
@@ -147,27 +157,50 @@ def check_letters(book, asked, letters):
             raise ImpossibleLetter(position)
 
 
-def changes_with(book, asked, letter):
-    """A dict from the counters to changes by which just the names of a possible letter fall."""
-    changes = {counter: 0 for counter in book.counters()}
-    # Names with fewer counters come first, so all parts of a name are settled ahead of it.
-    for size in range(1, len(book) + 1):
-        for name in asked:
-            if len(book.members(name)) == size:
-                settle(book, asked, letter, name, changes)
+def plan_of_changes(book, asked):
+    """What settles the asked names one by one, the parts of a name ahead of it.
+
+    There is a tuple for each name: the name, its parts, for each part the numbers of its counters, and the number of
+    the first counter of the name that is in no part, None if the name is filled.
+    """
+    parts = parts_of_asked(book, asked)
+    plan = []
+    # Names with fewer counters come first.
+    for name in sorted_by_size(book, asked):
+        inner = [book.places(part) for part in parts[name]]
+        bare = [place for place in book.places(name) if not any([place in places for places in inner])]
+        plan.append((name, parts[name], inner, bare[0] if bare else None))
+    return plan
+
+
+def sorted_by_size(book, asked):
+    """The asked names, those with fewer counters first."""
+    sizes = {name: len(book.places(name)) for name in asked}
+    return [name for size in range(1, len(book) + 1) for name in asked if sizes[name] == size]
+
+
+def changes_with(plan, letter, many):
+    """The changes of so many counters by which just the names of a possible letter fall.
+
+    One counter or one part of each name changes so much that it outweighs the rest of the name.
+    """
+    changes = [0] * many
+    sums = {}
+    for name, parts, inner, bare in plan:
+        total = sum([sums[part] for part in parts])
+        weight = 1 + sum([abs(sums[part]) for part in parts])
+        if bare is not None:
+            changes[bare] = -weight if name in letter else weight
+            sums[name] = total + changes[bare]
+        else:
+            leading = leading_part(parts, letter, name in letter)
+            # Multiplying all changes of a part leaves what falls in it as it is.
+            for place in inner[leading]:
+                changes[place] = changes[place] * weight
+            sums[name] = total + sums[parts[leading]] * (weight - 1)
     return changes
 
 
-def settle(book, asked, letter, name, changes):
-    """Changes one counter or one part of a name so much that it outweighs the rest of the name."""
-    parts = parts_of(book, asked, name)
-    bare = bare_counters(book, parts, name)
-    sums = [sum([changes[counter] for counter in book.members(part)]) for part in parts]
-    weight = 1 + sum([abs(total) for total in sums])
-    if bare:
-        changes[bare[0]] = -weight if name in letter else weight
-        return
-    # Multiplying all changes of a part leaves what falls in it as it is.
-    leading = [part for part in parts if (part in letter) == (name in letter)]
-    for counter in book.members(leading[0]):
-        changes[counter] = changes[counter] * weight
+def leading_part(parts, letter, falls):
+    """The number of the first part that does what the whole name does."""
+    return [number for number, part in enumerate(parts) if (part in letter) == falls][0]

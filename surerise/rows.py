@@ -1,6 +1,7 @@
 """Rows: the readings of all counters of a book, look by look."""
 
 from surerise.basics import is_count, is_integer, is_list
+from surerise.books import check_known
 from surerise.errors import InvalidGap, InvalidInteger, InvalidLook, InvalidLooks
 from surerise.errors import NoJoin, OtherBook, OtherLength
 
@@ -33,9 +34,9 @@ class Row:
 
     def reading(self, name, look):
         """The reading of a name at a look."""
-        members = self._book.members(name)
+        check_known(self._book, name)
         check_look(look, len(self._looks))
-        return self._total(members, look)
+        return self._total(name, look)
 
     def falls(self, name, gap):
         """Whether a name falls at a gap."""
@@ -50,7 +51,7 @@ class Row:
     def rise(self, name, first, last):
         """The sum of the steps of a name between two looks."""
         # An unknown name is refused also where there are no gaps between the looks.
-        self._book.members(name)
+        check_known(self._book, name)
         self._check_part(first, last)
         return sum([self.step(name, gap) for gap in range(first + 1, last + 1)])
 
@@ -98,14 +99,14 @@ class Row:
     def __rmul__(self, other):
         return self * other
 
-    def _total(self, members, look):
-        counters = self._book.counters()
-        return sum([reading for counter, reading in zip(counters, self._looks[look]) if counter in members])
+    def _total(self, name, look):
+        readings = self._looks[look]
+        return sum([readings[place] for place in self._book.places(name)])
 
     def _around(self, name, gap):
-        members = self._book.members(name)
+        check_known(self._book, name)
         check_gap(gap, self.gaps)
-        return (self._total(members, gap - 1), self._total(members, gap))
+        return (self._total(name, gap - 1), self._total(name, gap))
 
     def _check_part(self, first, last):
         check_look(first, len(self._looks))

@@ -1,6 +1,7 @@
 import copy
 import itertools
 import random
+import time
 import unittest
 from unittest.mock import ANY
 
@@ -168,6 +169,25 @@ class Letters(Case):
         strict_row(BOOK, names, letters)
         fitting_letters(BOOK, names, looks[0], looks[1]).append("more")
         self.same((names, letters, looks), before)
+
+    def fastest(self, call, *args):
+        """The milliseconds of the fastest of several calls."""
+        times = []
+        for _ in range(40):
+            begun = time.perf_counter()
+            call(*args)
+            times.append(time.perf_counter() - begun)
+        return min(times) * 1000
+
+    def test_many_lists_of_letters_can_be_asked(self):
+        book = Book(["a", "b", "c"], [("s", ["a", "b"]), ("t", ["a", "b", "c"])])
+        names = ["t", "s", "c", "b", "a"]
+        possible = possible_letters(book, names)
+        self.assertLess(self.fastest(strict_row, book, names, possible[:9]), 0.32)
+        self.assertLess(self.fastest(is_possible, book, names, possible[5]), 0.027)
+        for large in (CHAIN, SIDES):
+            letters = possible_letters(large, large.names())[::2][:60]
+            self.assertLess(self.fastest(strict_row, large, large.names(), letters), 10)
 
 
 class LettersRefused(Case):
