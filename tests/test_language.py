@@ -19,7 +19,8 @@ LIBRARY = {
 }
 BUILTINS = set(
     "len range enumerate zip min max sum abs sorted reversed int str bool list tuple dict isinstance ord repr any all"
-    " divmod ValueError LookupError ArithmeticError TypeError KeyError ZeroDivisionError NotImplemented property"
+    " divmod ValueError LookupError ArithmeticError TypeError KeyError ZeroDivisionError NotImplementedError"
+    " NotImplemented property"
     " staticmethod classmethod super map".split()
 )
 METHODS = set(
@@ -233,6 +234,44 @@ class Code(unittest.TestCase):
         for at, node in nodes(ast.Call):
             if isinstance(node.func, ast.Name) and node.func.id == "sorted":
                 self.assertIn(ast.unparse(node.keywords[0]), ("key=str", "key=int", "key=len"), at)
+
+    def test_max_and_min_of_plain_numbers(self):
+        # Where a class has an order, they take what is plainly numbers, or a key that makes it so.
+        for at, node in nodes(ast.Call):
+            if isinstance(node.func, ast.Name) and node.func.id in ("max", "min"):
+                keyed = [ast.unparse(keyword) for keyword in node.keywords if keyword.arg == "key"]
+                plain = [arg for arg in node.args if isinstance(arg, ast.Constant) or ast.unparse(arg).startswith("len(")]
+                self.assertTrue(keyed == ["key=int"] or (len(node.args) == 2 and plain), at)
+
+    def test_no_name_is_a_method_and_an_attribute(self):
+        methods = {m.name for _, c in nodes(ast.ClassDef) for m in c.body if isinstance(m, ast.FunctionDef)}
+        stored = {node.attr for _, node in nodes(ast.Attribute) if isinstance(node.ctx, ast.Store)}
+        self.assertEqual(methods & stored - {"ceiling"}, set())
+        self.assertFalse(stored & set(dir(str) + dir(int) + dir(list) + dir(dict) + dir(set)) - {"count", "index"})
+
+    def test_class_methods_have_names_of_their_own(self):
+        plain, made = set(), set()
+        for _, part in nodes(ast.ClassDef):
+            for method in part.body:
+                if isinstance(method, ast.FunctionDef):
+                    decorators = [ast.unparse(decorator) for decorator in method.decorator_list]
+                    bound = made if decorators in (["staticmethod"], ["classmethod"]) else plain
+                    bound.add(method.name)
+        self.assertEqual(plain & made, set())
+
+    def test_classes_with_an_order_or_reflected_methods_stand_alone(self):
+        classes = [node for _, node in nodes(ast.ClassDef)]
+        bases = {base.id for node in classes for base in node.bases}
+        for node in classes:
+            names = {part.name for part in node.body if isinstance(part, ast.FunctionDef)}
+            if names & {"__le__", "__ge__", "__lt__", "__gt__", "__rmul__", "__radd__"}:
+                self.assertFalse(node.bases or node.name in bases, node.name)
+
+    def test_every_function_and_method_tells_what_it_does(self):
+        for at, node in nodes(ast.FunctionDef, ast.ClassDef):
+            if not node.name.startswith("_"):
+                setter = isinstance(node, ast.FunctionDef) and any("setter" in ast.unparse(d) for d in node.decorator_list)
+                self.assertTrue(setter or ast.get_docstring(node), f"{at} {node.name}")
 
 
 if __name__ == "__main__":
