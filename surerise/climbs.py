@@ -84,8 +84,8 @@ def journey_heights(whole, moves):
     ending = column_sums(whole.book, whole.lasts())
     found = [ending]
     for _ in range(len(ending)):
-        climbed = moves.climb(worths, found[-1])
-        higher = [one if one > two else two for one, two in zip(climbed, found[-1])]
+        # Staying without a fall is worth nothing, so no height gets less.
+        higher = moves.climb(worths, found[-1])
         if higher == found[-1]:
             return found
         found.append(higher)

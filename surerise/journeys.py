@@ -121,10 +121,10 @@ def ring_journey(whole, moves, found):
     # There are more looks than columns; leaving out what lies between two equal columns would lose value.
     last = [place for place, number in enumerate(numbers) if number in numbers[:place]][0]
     first = numbers.index(numbers[last])
-    once = journey_along(whole.book, numbers[first:last + 1], letters[first:last], 1)
-    ends = (whole.firsts(), whole.lasts())
-    missing = sum([abs(worth_of_look(whole.book, weights, once[0])) for weights in ends])
-    return journey_along(whole.book, numbers[first:last + 1], letters[first:last], missing + 1)
+    column = columns(whole.book)[numbers[last]]
+    # Once round is worth at least 1, so this often outweighs what is lost at both ends.
+    lost = [abs(worth_of_look(whole.book, weights, column)) for weights in (whole.firsts(), whole.lasts())]
+    return journey_along(whole.book, numbers[first:last + 1], letters[first:last], 1 + sum(lost))
 
 
 def journey_along(book, numbers, letters, times):

@@ -1,7 +1,7 @@
 """Weights: dicts from names, or from names and numbers, to INTEGERS other than 0."""
 
 
-def added(one, other, times=1):
+def added(one, other, times):
     """The weights of one, and those of other times a number."""
     total = {key: one[key] for key in one}
     for key in other:

@@ -120,7 +120,8 @@ class Journeys(Case):
             ((0, 1), [([(letter, (0, 1, 0))], 2)]), ((0, 1), [([(("s",), goal)], 2)]), ((0, 1), [([(("s", "a"), goal)], 2)]),
             ((0, 1), [([(("a", "t"), goal)], 2)]), ((0, 1), [([(letter, (1, 1))], 1)]), ((0, 1), [([(letter, None)], 1)]),
             ((0, 1), [(TURN, 2), (TURN, 0)]), ((0, 1), [(TURN, 2), None]), ((0, 1), {0: (TURN, 2)}), ((0, 1), [({0: TURN[0]}, 1)]),
-            ((0, 1), [([((ANY,), goal)], 1)]), ((0, 1), [("ab", 1)]), ((0, 1), ["ab"]),
+            ((0, 1), [([((ANY,), goal)], 1)]), ((0, 1), [("ab", 1)]), ((0, 1), ["ab"]), ((0, 1), [({TURN[0]: 1}, 1)]),
+            ((0, 1), {}), ((0, 1), ""), ((0, 1), [(None, 1)]), ((0, 1), [(0, 1)]),
         ):
             self.refused(FAR, wrong)
 
@@ -244,6 +245,19 @@ class Heights(Case):
         self.assertGreater(journey_value(heavy, journey), 0)
         self.assertGreater(journey_gaps(heavy, journey), 10 ** 30)
         self.same(heavy <= Whole.zero(BOOK), False)
+
+    def test_rings_that_are_reached_at_a_loss(self):
+        """The few moves that the heights count do not show that the value is ever greater than 0."""
+        far = 10 ** 6
+        whole = Whole.rising(BOOK, "s") - far * Whole.rising(BOOK, "a") - far * Whole.rising(BOOK, "b")
+        whole = whole - far * Whole.opening(BOOK, "s")
+        for less in (Whole.closing(BOOK, "s"), Whole.closing(BOOK, "a"), Whole.opening(BOOK, "b"), Whole.zero(BOOK)):
+            for times in (1, far, far ** 4):
+                heavy = whole - times * less
+                self.assertFalse(any(value_of(heavy, (u, [([(("a", "s"), u)], 5)])) > 0 for u in columns(BOOK)))
+                journey = breaking_journey(heavy)
+                self.assertGreater(journey_value(heavy, journey), 0)
+                self.same([heavy <= Whole.zero(BOOK), whole_heights(heavy)], [False, None])
 
     def test_answers_are_new(self):
         whole_heights(NET - RISE).clear()

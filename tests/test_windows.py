@@ -92,6 +92,7 @@ class Walks(Case):
             (looks, [("b",), ("b", "a", "s")]), (looks, [("b",), ("a", "b", "s", "s")]), (looks, [("b",), ("a", "b", "t")]),
             (looks, [("b",), None]), (looks, ["b", letters[1]]), (looks, [(ANY,), letters[1]]), (looks, {0: ("b",), 1: ()}),
             (looks[::-1], letters), (looks, [("b",), ("a", "b")]), (dict(enumerate(looks)), letters),
+            ({(0, 1): 0}, []), ([(0, 1)], {}), ([(0, 1)], ""), (None, []), ([(0, 1)], None), ([(0, 1)], 0),
         ):
             self.same(is_walk(EXCESS, wrong), False)
             self.refuses(InvalidWalk, {"value": wrong}, walk_value, EXCESS, wrong)
