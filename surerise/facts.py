@@ -20,11 +20,25 @@ class Fact:
         """Whether a row keeps the fact."""
         for name in self._names:
             check_known(row.book, name)
-        return self.holds([[row.falls(name, gap) for name in self._names] for gap in range(1, row.gaps + 1)])
+        count = self.first_count()
+        for gap in range(1, row.gaps + 1):
+            letter = tuple([name for name in self._names if row.falls(name, gap)])
+            if not self.allows(letter, count):
+                return False
+            count = self.next_count(letter, count)
+        return True
 
-    def holds(self, falls):
-        """Whether the fact is kept if at each gap just these of its names fall."""
+    def first_count(self):
+        """What a fact that counts begins with, None for one that does not."""
+        return None
+
+    def allows(self, letter, count):
+        """Whether the names of a letter may fall at a gap, if this is the count ahead of it."""
         raise NotImplementedError("each kind of facts has its own")
+
+    def next_count(self, letter, count):
+        """The count behind a gap with a letter, if this is the one ahead of it."""
+        return count
 
     @staticmethod
     def read(text):
@@ -48,9 +62,10 @@ class OnlyWith(Fact):
         check_names(name, other)
         Fact.__init__(self, [name, other], [name, "only", "with", other])
 
-    def holds(self, falls):
-        """Whether the other name falls wherever the name does."""
-        return all([with_it for falling, with_it in falls if falling])
+    def allows(self, letter, count):
+        """Whether the name falls only together with the other one."""
+        name, other = self._names
+        return name not in letter or other in letter
 
 
 class NotBoth(Fact):
@@ -60,9 +75,10 @@ class NotBoth(Fact):
         check_names(name, other)
         Fact.__init__(self, [name, other], [name, "not", "with", other])
 
-    def holds(self, falls):
-        """Whether there is no gap with both falls."""
-        return not any([one and two for one, two in falls])
+    def allows(self, letter, count):
+        """Whether one of the names does not fall."""
+        name, other = self._names
+        return name not in letter or other not in letter
 
 
 class NeverFalls(Fact):
@@ -72,9 +88,9 @@ class NeverFalls(Fact):
         check_name(name)
         Fact.__init__(self, [name], [name, "never"])
 
-    def holds(self, falls):
-        """Whether there is no gap with a fall."""
-        return not any([falling for (falling,) in falls])
+    def allows(self, letter, count):
+        """Whether the name does not fall."""
+        return self._names[0] not in letter
 
 
 class Apart(Fact):
@@ -87,10 +103,17 @@ class Apart(Fact):
         Fact.__init__(self, [name], [name, "apart", str(gaps)])
         self._least = gaps
 
-    def holds(self, falls):
-        """Whether each fall is far enough behind the one before it."""
-        numbers = [number for number, (falling,) in enumerate(falls) if falling]
-        return all([behind - ahead >= self._least for ahead, behind in zip(numbers, numbers[1:])])
+    def first_count(self):
+        """The count is for how many further gaps the name must not fall, so it begins with none."""
+        return 0
+
+    def allows(self, letter, count):
+        """Whether the name does not fall, or may fall again."""
+        return self._names[0] not in letter or count == 0
+
+    def next_count(self, letter, count):
+        """The count begins again with each fall."""
+        return self._least - 1 if self._names[0] in letter else max(0, count - 1)
 
 
 class AtMost(Fact):
@@ -103,9 +126,17 @@ class AtMost(Fact):
         Fact.__init__(self, [name], [name, "at", "most", str(falls)])
         self._most = falls
 
-    def holds(self, falls):
-        """Whether there are no more falls than that."""
-        return len([True for (falling,) in falls if falling]) <= self._most
+    def first_count(self):
+        """The count is how often the name may still fall."""
+        return self._most
+
+    def allows(self, letter, count):
+        """Whether the name does not fall, or falls are left."""
+        return self._names[0] not in letter or count > 0
+
+    def next_count(self, letter, count):
+        """One fall less is left behind each fall."""
+        return max(0, count - 1) if self._names[0] in letter else count
 
 
 def check_name(name):

@@ -4,7 +4,7 @@ from surerise.basics import is_count, is_integer
 from surerise.books import check_known
 from surerise.climbs import greatest_value
 from surerise.errors import InvalidInteger, OtherBook, TooMany, TooShort
-from surerise.moves import check_few
+from surerise.moves import check_few, free_moves
 from surerise.weights import added, in_order_of_pairs, multiplied
 
 
@@ -156,4 +156,4 @@ def is_never_above(one, other):
     """Whether one question is never above another one, for all rows."""
     less = one - other
     check_few(less.asked(), Question.MOST_NAMES)
-    return greatest_value(less) == 0
+    return greatest_value(less, free_moves(less.book, less.asked())) == 0

@@ -1,10 +1,10 @@
 """Wholes: questions about rows of any length."""
 
+from surerise.ascents import is_ever_above_zero
 from surerise.basics import is_integer
 from surerise.books import check_known
-from surerise.climbs import is_ever_above_zero
 from surerise.errors import InvalidInteger, OtherBook
-from surerise.moves import check_few
+from surerise.moves import check_few, free_moves
 from surerise.questions import Question
 from surerise.weights import added, in_order_of_names, multiplied
 
@@ -131,4 +131,4 @@ def is_never_above(one, other):
     """Whether one whole is never above another one, for rows of all lengths."""
     less = one - other
     check_few(less.asked(), Question.MOST_NAMES)
-    return not is_ever_above_zero(less)
+    return not is_ever_above_zero(less, free_moves(less.book, less.asked()))
