@@ -1,6 +1,7 @@
 """Least sets of facts that are enough for a bound."""
 
 from surerise.basics import is_list
+from surerise.choices import all_sets
 from surerise.errors import InvalidFact, TooMany
 from surerise.facts import Fact
 from surerise.factsets import Facts, reachable_states
@@ -43,16 +44,6 @@ def check_facts(facts):
             raise InvalidFact(fact)
     if len(facts) > MOST_FACTS:
         raise TooMany("facts", MOST_FACTS)
-
-
-def all_sets(many):
-    """All ascending lists of numbers below a number, shorter ones first, those of one length in ascending order."""
-    layer = [[]]
-    found = []
-    for _ in range(many + 1):
-        found = found + layer
-        layer = [numbers + [more] for numbers in layer for more in range(many) if not numbers or more > numbers[-1]]
-    return found
 
 
 def has_part(sets, numbers):

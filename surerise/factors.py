@@ -55,6 +55,23 @@ def factor_and_run(one, other, facts):
     return least_and_witness(one, other, gaps, moves) if obstacle is None else (None, obstacle)
 
 
+def run_for(one, other, facts, ratio):
+    """A witness of a RATIO if it is the least factor, or of None an obstacle if there is none; None if this is not so.
+
+    Other is never below zero.
+    """
+    moves = shared_moves(one, other, facts)
+    gaps = shared_gaps(one, other)
+    obstacle = obstacle_of(one, other, gaps, moves)
+    if ratio is None:
+        return obstacle
+    # Where other is zero for all rows, nothing is a witness.
+    if obstacle is not None or run_above(other, gaps, moves) is None:
+        return None
+    least, run = least_and_witness(one, other, gaps, moves)
+    return run if least == ratio else None
+
+
 def obstacle_of(one, other, gaps, moves):
     """An obstacle, None if there is none; other is never below zero."""
     # Where other is at least 1, so much of it is no less than one.

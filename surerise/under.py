@@ -92,10 +92,16 @@ def is_journey_under(whole, facts, value):
     return is_journey_of(guide_of(whole, facts), value)
 
 
+def are_alike(one, other):
+    """Whether two values are two questions or two wholes."""
+    if isinstance(one, Question):
+        return isinstance(other, Question)
+    return isinstance(one, Whole) and isinstance(other, Whole)
+
+
 def check_alike(one, other):
     """Refuses another thing that is not of the kind of the first one, a question or a whole."""
-    questions = isinstance(one, Question) and isinstance(other, Question)
-    if not questions and not (isinstance(one, Whole) and isinstance(other, Whole)):
+    if not are_alike(one, other):
         raise InvalidQuestion(other)
 
 

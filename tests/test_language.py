@@ -226,8 +226,9 @@ class Code(unittest.TestCase):
                 self.assertIsInstance(node.exc, ast.Call, at)
                 self.assertIsInstance(node.exc.func, ast.Name, at)
         for at, node in nodes(ast.ExceptHandler):
-            self.assertIsInstance(node.type, ast.Name, at)
-            self.assertNotIn(node.type.id, dir(builtins), at)
+            for caught in node.type.elts if isinstance(node.type, ast.Tuple) else [node.type]:
+                self.assertIsInstance(caught, ast.Name, at)
+                self.assertNotIn(caught.id, dir(builtins), at)
 
     def test_sorted_has_a_key(self):
         # Where classes compare by their own signs, only plain numbers and strings are sorted.
